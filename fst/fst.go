@@ -2,10 +2,10 @@
 package fst
 
 import (
-	"cmp"
 	"slices"
 
 	"fareway/api"
+	"fareway/order"
 )
 
 // Check a transducer.
@@ -37,21 +37,11 @@ func checkArcs(f api.Fst) api.Errno {
 		if !within(a.In, 0, api.MaxLetter) || !within(a.Out, 0, api.MaxLetter) || !within(a.Weight, 0, api.MaxWeight) {
 			return api.ErrRange
 		}
-		if i > 0 && compareArcs(f.Arcs[i-1], a) >= 0 {
+		if i > 0 && order.Compare(f.Arcs[i-1], a) >= 0 {
 			return api.ErrState
 		}
 	}
 	return api.OK
-}
-
-// compareArcs leaves the weight out: of two arcs that differ in nothing else, neither stands behind the other.
-func compareArcs(a, b api.Arc) int {
-	return cmp.Or(
-		cmp.Compare(a.From, b.From),
-		cmp.Compare(a.In, b.In),
-		cmp.Compare(a.Out, b.Out),
-		cmp.Compare(a.To, b.To),
-	)
 }
 
 func isState(f api.Fst, n int) bool { return within(n, 0, f.States-1) }
