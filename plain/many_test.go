@@ -157,7 +157,7 @@ func TestGreatWeights(t *testing.T) {
 func TestGreatWeightsOfMany(t *testing.T) {
 	d := draw(5)
 	refused := 0
-	for range 1000 {
+	for range 3000 {
 		f := d.acceptor(2+d.below(4), 1, 2+d.below(4), 2+d.below(4), 2)
 		total, end := 0, 0
 		for _, cost := range f.Final {
@@ -178,7 +178,7 @@ func TestGreatWeightsOfMany(t *testing.T) {
 		}
 		right(t, f, g, words(4, 1))
 	}
-	if refused < 20 || refused > 500 {
+	if refused < 20 || refused > 1500 {
 		t.Errorf("%d are refused: too few to tell", refused)
 	}
 }

@@ -102,7 +102,7 @@ func TestPlainByHand(t *testing.T) {
 	}
 }
 
-// E1, E2: many, held against what they cost; made late or early, with needless arcs left out.
+// E1, E2: many, held against what they cost, in whichever way they are made.
 func TestPlainOfMany(t *testing.T) {
 	d := draw(1)
 	short := words(4, 2)
@@ -111,8 +111,10 @@ func TestPlainOfMany(t *testing.T) {
 		f := d.acceptor(1+d.below(6), 2, 3+d.below(12), 2+d.below(10), 1+d.below(12))
 		right(t, f, made(t, f), short)
 		s := stridesOf(f)
-		for _, left := range []func(table) table{s.late, s.early, func(t table) table { return t }} {
-			right(t, f, s.made(left), short)
+		for _, made := range s.nets() {
+			if n := made(); len(n.final) > 0 {
+				right(t, f, n.acceptor(), short)
+			}
 		}
 		for _, w := range short {
 			can += min(cost(t, f, w)+1, 1)

@@ -7,11 +7,12 @@ import (
 	"fareway/spread"
 )
 
-// strides of an acceptor: what it costs at least from state to state by silent arcs alone; by each letter, with silent arcs ahead of it and behind it; and to end, with silent arcs ahead of that.
+// strides of an acceptor: what it costs at least from state to state by silent arcs alone; by just one arc of each letter; by each letter with silent arcs ahead of it and behind it; and to end, with silent arcs ahead of that.
 type strides struct {
 	start    int
 	silent   table
-	byLetter []table // that of the letter 1 first
+	single   []table // that of the letter 1 first
+	byLetter []table // so, too
 	final    []int
 }
 
@@ -24,6 +25,7 @@ func stridesOf(f api.Fst) *strides {
 	}
 	for letter := 1; letter <= api.MaxLetter; letter++ {
 		one := tableOf(f.States, reading(f, letter))
+		s.single = append(s.single, one)
 		s.byLetter = append(s.byLetter, through(through(s.silent, one), s.silent))
 	}
 	s.final, _ = spread.Costs(f.Final, noLetter, func(a api.Arc) (int, int) { return a.To, a.From })
@@ -36,43 +38,32 @@ func reading(f api.Fst, letter int) []api.Arc {
 }
 
 // late: who must go along silent arcs can always do so ahead of the next letter, or of the end. So a stride to a state is needless if one can be at another state instead, and come there later on.
-func (s *strides) late(letter table) table {
-	return thinned(letter, s.silent, func(int) bool { return false })
+func (s *strides) late() net {
+	return s.net(each(s.byLetter, func(t table) table {
+		return thinned(t, s.silent, func(int) bool { return false })
+	}))
 }
 
-// early is for where late leaves more arcs than there may be: who must go along silent arcs can always do so behind the last letter. So a stride from a state is needless if one can be at another state already; but ahead of the first letter one is at the start, and nowhere else.
-func (s *strides) early(letter table) table {
-	return turned(thinned(turned(letter), turned(s.silent), func(from int) bool { return from == s.start }))
+// early: who must go along silent arcs can always do so behind the last letter. So a stride from a state is needless if one can be at another state already; but ahead of the first letter one is at the start, and nowhere else.
+func (s *strides) early() net {
+	return s.net(each(s.byLetter, func(t table) table {
+		return turned(thinned(turned(t), turned(s.silent), func(from int) bool { return from == s.start }))
+	}))
 }
 
-// made has an arc for each stride by a letter that is left, if it lies on a way from the start to an end.
-func (s *strides) made(left func(table) table) api.Fst {
-	f := api.Fst{States: len(s.silent), Start: s.start, Final: slices.Clone(s.final)}
-	var letters []table
-	for _, t := range s.byLetter {
-		letters = append(letters, left(t))
-	}
-	for from := range f.States {
-		for i, t := range letters {
-			for to, cost := range t[from] {
-				if cost != api.None {
-					f.Arcs = append(f.Arcs, api.Arc{From: from, In: i + 1, Out: i + 1, To: to, Weight: cost})
-				}
-			}
-		}
-	}
-	return used(f)
+func (s *strides) net(letters []table) net {
+	return net{begin: spread.Only(len(s.silent), s.start), final: s.final, letters: letters}.used()
 }
 
-// used has no arc and no end but those on a way from the start to an end: what is too many, or too great, elsewhere has no say.
-func used(f api.Fst) api.Fst {
-	come, _ := spread.Costs(spread.Only(f.States, f.Start), f.Arcs, func(a api.Arc) (int, int) { return a.From, a.To })
-	lead, _ := spread.Costs(f.Final, f.Arcs, func(a api.Arc) (int, int) { return a.To, a.From })
-	f.Arcs = slices.DeleteFunc(f.Arcs, func(a api.Arc) bool { return come[a.From] == api.None || lead[a.To] == api.None })
-	for state := range f.Final {
-		if come[state] == api.None {
-			f.Final[state] = api.None
-		}
+// nets that cost the same, one after the other: those that are made soonest first.
+func (s *strides) nets() []func() net {
+	return []func() net{
+		s.late,
+		s.early,
+		s.covered,
+		func() net { return s.covered().lessened() },
+		func() net { return s.late().lessened() },
+		func() net { return s.early().lessened() },
+		func() net { return s.late().oneWay() },
 	}
-	return f
 }

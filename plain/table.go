@@ -29,15 +29,27 @@ func tableOf(states int, arcs []api.Arc) table {
 
 // through a, then b: the best of all states between.
 func through(a, b table) table {
-	t := empty(len(a))
-	for from, row := range a {
-		for between, first := range row {
-			for to, second := range b[between] {
-				t.offer(from, to, spread.Sum(first, second))
+	var t table
+	for _, row := range a {
+		t = append(t, step(row, b))
+	}
+	return t
+}
+
+// step on from states that it costs so much to be at.
+func step(costs []int, t table) []int {
+	l := slices.Repeat([]int{api.None}, len(costs))
+	for from, first := range costs {
+		if first == api.None {
+			continue
+		}
+		for to, second := range t[from] {
+			if cost := spread.Sum(first, second); spread.Less(cost, l[to]) {
+				l[to] = cost
 			}
 		}
 	}
-	return t
+	return l
 }
 
 // offer a price, which is taken if it is better.
@@ -58,17 +70,23 @@ func turned(t table) table {
 	return u
 }
 
-// thinned leaves needless elements out of each row, but none of those that are kept. One after the other: of two that make each other needless one stays.
-func thinned(t, near table, kept func(to int) bool) table {
+func clone(t table) table {
 	var u table
 	for _, row := range t {
-		row = slices.Clone(row)
+		u = append(u, slices.Clone(row))
+	}
+	return u
+}
+
+// thinned leaves needless elements out of each row, but none of those that are kept. One after the other: of two that make each other needless one stays.
+func thinned(t, near table, kept func(to int) bool) table {
+	u := clone(t)
+	for _, row := range u {
 		for to := range row {
 			if !kept(to) && needless(row, near, to) {
 				row[to] = api.None
 			}
 		}
-		u = append(u, row)
 	}
 	return u
 }
@@ -81,4 +99,23 @@ func needless(row []int, near table, to int) bool {
 		}
 	}
 	return false
+}
+
+// best price of all; None, if there is none.
+func best(costs []int) int {
+	least := api.None
+	for _, cost := range costs {
+		if spread.Less(cost, least) {
+			least = cost
+		}
+	}
+	return least
+}
+
+func sums(a, b []int) []int {
+	var l []int
+	for i := range a {
+		l = append(l, spread.Sum(a[i], b[i]))
+	}
+	return l
 }

@@ -1,0 +1,194 @@
+package plain
+
+import (
+	"testing"
+
+	"fareway/api"
+	"fareway/fst"
+	"fareway/order"
+)
+
+// crossed: silent arcs from each of the first states to the last but one, and from the last one to each of them; some letters from the last but one to each of them, others from each of them to the last one. So silent arcs ahead of each letter would be too many, and behind each one, too.
+func crossed(start int, price func() int) api.Fst {
+	f := large(func(int) int { return price() })
+	f.Start = start
+	to, from := f.States-2, f.States-1
+	for state := range to {
+		f.Arcs = append(f.Arcs, arc(state, 0, to, price()), arc(from, 0, state, price()))
+		for letter := 1; letter <= 4; letter++ {
+			f.Arcs = append(f.Arcs, arc(to, letter, state, price()), arc(state, letter+4, from, price()))
+		}
+	}
+	f.Arcs = order.Least(f.Arcs)
+	return f
+}
+
+// hubbed: many arcs by letters between all states, and silent ones from each state to the last one and back.
+func (d *draw) hubbed(odds int) api.Fst {
+	f := d.acceptor(mostStates, api.MaxLetter, odds, 1000000, 1000)
+	last := f.States - 1
+	for state := range last {
+		f.Arcs = append(f.Arcs, arc(state, 0, last, d.below(1000)), arc(last, 0, state, d.below(1000)))
+	}
+	f.Arcs = order.Least(f.Arcs)
+	return f
+}
+
+// twins: two states for each one of a smaller acceptor; arcs lead to the one or to the other.
+func (d *draw) twins(dear int) api.Fst {
+	half := d.acceptor(mostStates/2, api.MaxLetter, 3, 8, dear)
+	f := api.Fst{States: mostStates, Start: half.Start, Final: append(half.Final, half.Final...)}
+	for _, a := range half.Arcs {
+		for from := a.From; from < f.States; from += half.States {
+			f.Arcs = append(f.Arcs, arc(from, a.In, a.To+half.States*d.below(2), a.Weight))
+		}
+	}
+	f.Arcs = order.Least(f.Arcs)
+	return f
+}
+
+// forked: two states for each one of a smaller acceptor; arcs lead to both of them, and from the one or from the other, but all that begins begins at one.
+func (d *draw) forked(dear int) api.Fst {
+	half := d.acceptor(mostStates/2, api.MaxLetter, 3, 1000000, dear)
+	half.Start = 0
+	f := api.Fst{States: mostStates, Final: make([]int, mostStates)}
+	for state, cost := range half.Final {
+		f.Final[state], f.Final[state+half.States] = cost, api.None
+		if state > 0 && d.below(2) == 0 {
+			f.Final[state], f.Final[state+half.States] = api.None, cost
+		}
+	}
+	for _, a := range half.Arcs {
+		from := a.From + half.States*d.below(min(a.From+1, 2))
+		if a.To > 0 {
+			f.Arcs = append(f.Arcs, arc(from, a.In, a.To, a.Weight), arc(from, a.In, a.To+half.States, a.Weight))
+		}
+	}
+	f.Arcs = order.Least(f.Arcs)
+	return f
+}
+
+func (d *draw) words(n, letters int) [][]int {
+	l := [][]int{nil}
+	for range 20 {
+		l = append(l, d.word(n, letters))
+	}
+	return l
+}
+
+// few: neither late nor early has few enough arcs, so that another one must come; and it comes.
+func few(t *testing.T, d *draw, f api.Fst) {
+	t.Helper()
+	if e := fst.Check(f); e != api.OK {
+		t.Fatalf("it is wrong itself: %d", e)
+	}
+	s := stridesOf(f)
+	if l, e := len(s.late().arcs()), len(s.early().arcs()); l <= api.MaxArcs || e <= api.MaxArcs {
+		t.Fatalf("there are but %d arcs, or %d: too few to tell", l, e)
+	}
+	right(t, f, made(t, f), d.words(7, api.MaxLetter))
+}
+
+// E1: no other error but those that are named: what has too many arcs if silent arcs are gone ahead of each letter, and if behind each one, too, comes all the same.
+func TestFewArcs(t *testing.T) {
+	d := draw(10)
+	for _, start := range []int{0, 13, mostStates - 2, mostStates - 1} {
+		few(t, &d, crossed(start, func() int { return 0 }))
+		few(t, &d, crossed(start, func() int { return 7 }))
+		few(t, &d, crossed(start, func() int { return d.below(3) }))
+		few(t, &d, crossed(start, func() int { return d.below(1000) }))
+	}
+	for odds := 4; odds <= 6; odds++ {
+		few(t, &d, d.hubbed(odds))
+	}
+}
+
+// E1: one state between many, by which all silent ways lead, is gone to behind a letter, and from ahead of one: so there are not many more arcs than there were.
+func TestCovered(t *testing.T) {
+	d := draw(11)
+	for range 5 {
+		f := crossed(d.below(mostStates), func() int { return d.below(1000) })
+		n := stridesOf(f).covered()
+		right(t, f, n.acceptor(), d.words(7, 8))
+		if len(n.arcs()) > 2*len(f.Arcs) {
+			t.Errorf("%d arcs of %d", len(n.arcs()), len(f.Arcs))
+		}
+		g := d.hubbed(6)
+		n = stridesOf(g).covered()
+		right(t, g, n.acceptor(), d.words(5, 9))
+		if len(n.arcs()) > len(g.Arcs)+3*api.MaxLetter*mostStates {
+			t.Errorf("%d arcs of %d", len(n.arcs()), len(g.Arcs))
+		}
+	}
+}
+
+// Two states from which all costs the same, or to which, become one.
+func TestLessened(t *testing.T) {
+	d := draw(12)
+	for range 10 {
+		dear := 2 + d.below(20)
+		for _, f := range []api.Fst{d.twins(dear), d.forked(dear)} {
+			n := stridesOf(f).late().lessened()
+			right(t, f, n.acceptor(), d.words(6, 9))
+			if g, _ := fst.Trim(n.acceptor()); g.States > mostStates/2 {
+				t.Errorf("%d states are left", g.States)
+			}
+		}
+	}
+}
+
+// E1: at most as many states as may be, with one arc from each by each letter.
+func TestOneWay(t *testing.T) {
+	d := draw(13)
+	found := 0
+	for range 300 {
+		f := d.acceptor(2+d.below(6), 2, 3+d.below(4), 3+d.below(8), 1+d.below(3))
+		n := stridesOf(f).late().oneWay()
+		if len(n.final) == 0 {
+			continue
+		}
+		found++
+		right(t, f, n.acceptor(), words(5, 2))
+		arcs := n.arcs()
+		for i := 1; i < len(arcs); i++ {
+			if arcs[i].From == arcs[i-1].From && arcs[i].In == arcs[i-1].In {
+				t.Fatalf("%v: two arcs by one letter: %v", f, arcs)
+			}
+		}
+	}
+	if found < 50 || found > 290 {
+		t.Errorf("%d are found: too few, or too many, to tell", found)
+	}
+}
+
+// What near tells must hold for each word: from the one state on it costs no more than that much more.
+func TestNear(t *testing.T) {
+	d := draw(14)
+	told := 0
+	for range 200 {
+		f := d.acceptor(2+d.below(4), 2, 2+d.below(4), 1000000, 4)
+		n := stridesOf(f).late()
+		near := n.near()
+		for one, row := range near {
+			for other, more := range row {
+				if one == other && more != 0 {
+					t.Fatalf("%v: from %d it is %d more than from there", f, one, more)
+				}
+				if one == other || more == api.None {
+					continue
+				}
+				told++
+				for _, w := range words(5, 2) {
+					a, b := n.acceptor(), n.acceptor()
+					a.Start, b.Start = one, other
+					if x, y := cost(t, a, w), cost(t, b, w); y != api.None && (x == api.None || x > y+more) {
+						t.Fatalf("%v: %v costs %d from %d and %d from %d, which may be %d more", f, w, x, one, y, other, more)
+					}
+				}
+			}
+		}
+	}
+	if told < 500 {
+		t.Errorf("only %d are told: too few to tell", told)
+	}
+}
