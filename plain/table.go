@@ -101,17 +101,6 @@ func needless(row []int, near table, to int) bool {
 	return false
 }
 
-// best price of all; None, if there is none.
-func best(costs []int) int {
-	least := api.None
-	for _, cost := range costs {
-		if spread.Less(cost, least) {
-			least = cost
-		}
-	}
-	return least
-}
-
 func sums(a, b []int) []int {
 	var l []int
 	for i := range a {

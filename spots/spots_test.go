@@ -1,0 +1,53 @@
+package spots
+
+import (
+	"testing"
+
+	"fareway/api"
+)
+
+// Spots have one number for each, from 0 on, if one is as much dearer than the other, whatever they cost.
+func TestMeet(t *testing.T) {
+	var n Numbers
+	for _, c := range []struct {
+		costs            []int
+		number, cheapest int
+	}{
+		{[]int{0, api.None, 0}, 0, 0},
+		{[]int{api.None, 4, api.None}, 1, 4},
+		{[]int{7, api.None, 7}, 0, 7},
+		{[]int{7, api.None, 8}, 2, 7},
+		{[]int{1, api.None, 0}, 3, 0},
+		{[]int{api.None, 0, api.None}, 1, 0},
+		{[]int{3, api.None, 4}, 2, 3},
+		{[]int{api.None, api.None, 0}, 4, 0},
+		{[]int{0, 0, 0}, 5, 0},
+		{[]int{2 * api.MaxWeight, api.None, 5 * api.MaxWeight}, 6, 2 * api.MaxWeight},
+	} {
+		if number, cheapest := n.Meet(c.costs); number != c.number || cheapest != c.cheapest {
+			t.Errorf("%v: it is %d, %d and must be %d, %d", c.costs, number, cheapest, c.number, c.cheapest)
+		}
+	}
+	if len(n.Met) != 7 {
+		t.Errorf("%d are met", len(n.Met))
+	}
+	if s := n.Met[2]; s[0] != 0 || s[1] != api.None || s[2] != 1 || s[3] != api.None || s[api.MaxStates-1] != api.None {
+		t.Errorf("it is %v", s)
+	}
+}
+
+func TestCheapest(t *testing.T) {
+	for _, c := range []struct {
+		costs []int
+		want  int
+	}{
+		{nil, api.None},
+		{[]int{api.None, api.None}, api.None},
+		{[]int{0}, 0},
+		{[]int{api.None, 5, api.None, 3, 4}, 3},
+	} {
+		if is := Cheapest(c.costs); is != c.want {
+			t.Errorf("%v: it is %d and must be %d", c.costs, is, c.want)
+		}
+	}
+}
