@@ -7,6 +7,7 @@ import (
 
 	"fareway/api"
 	"fareway/fst"
+	"fareway/order"
 )
 
 // answers of all calls.
@@ -102,6 +103,27 @@ func TestErrorsInTheirOrder(t *testing.T) {
 			t.Errorf("%v: it is %v, %d and must be %d", c.f, g, e, c.want)
 		} else if e == api.OK {
 			right(t, c.f, g, words(6, 2))
+		}
+	}
+}
+
+// G1, P1: behind each word it is otherwise dear to be on the one track and on the other one: so there are as many subsets as words; it ends all the same.
+func TestAllSubsetsDiffer(t *testing.T) {
+	for _, levels := range []int{5, 6, 7, 30, 99} {
+		f := api.Fst{States: 2*levels + 1, Final: slices.Repeat([]int{api.None}, 2*levels+1)}
+		f.Final[2*levels-1], f.Final[2*levels] = 0, 0
+		for level := range levels {
+			first, second := max(2*level-1, 0), 2*level
+			f.Arcs = append(f.Arcs, arc(first, 1, 2*level+1, 0), arc(first, 2, 2*level+1, 1<<min(level, 29)))
+			f.Arcs = append(f.Arcs, arc(second, 1, 2*level+2, 1<<min(level, 29)), arc(second, 2, 2*level+2, 0))
+		}
+		f.Arcs = order.Least(f.Arcs)
+		g, e := Determine(f)
+		if levels > 6 && (e != api.ErrMany || !same(g, api.Fst{})) {
+			t.Fatalf("of %d levels it is %v, %d", levels, g, e)
+		}
+		if levels <= 6 {
+			right(t, f, g, words(levels, 2))
 		}
 	}
 }

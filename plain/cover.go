@@ -5,7 +5,6 @@ import (
 	"slices"
 
 	"fareway/api"
-	"fareway/spots"
 	"fareway/spread"
 )
 
@@ -65,7 +64,7 @@ func between(there, on []int, cost int) set {
 
 // leaves: does anything lead from that state to another one?
 func leaves(l []table, state int) bool {
-	return slices.ContainsFunc(l, func(t table) bool { return spots.Cheapest(t[state]) != api.None })
+	return slices.ContainsFunc(l, func(t table) bool { return spread.Cheapest(t[state]) != api.None })
 }
 
 // core of the arcs by each letter: without those that cost no less than another one with silent arcs ahead of it and behind it.

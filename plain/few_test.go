@@ -68,6 +68,25 @@ func (d *draw) forked(dear int) api.Fst {
 	return f
 }
 
+// crowded draws one with almost as many arcs as there may be, which cost less than dear; so many of its states are final.
+func (d *draw) crowded(hush, ends, dear int) api.Fst {
+	f := large(func(state int) int { return max(min(ends-state, 1)-1, api.None) })
+	f.Start = d.below(f.States)
+	for n := range f.States * f.States {
+		from, to := n/f.States, n%f.States
+		if d.below(hush) == 0 {
+			f.Arcs = append(f.Arcs, arc(from, 0, to, d.below(dear)))
+		}
+		for letter := 1; letter <= api.MaxLetter; letter++ {
+			if d.below(100) < 36 {
+				f.Arcs = append(f.Arcs, arc(from, letter, to, d.below(dear)))
+			}
+		}
+	}
+	f.Arcs = order.Least(f.Arcs)
+	return f
+}
+
 func (d *draw) words(n, letters int) [][]int {
 	l := [][]int{nil}
 	for range 20 {
@@ -103,6 +122,19 @@ func TestFewArcs(t *testing.T) {
 	}
 }
 
+// E1: arcs by letters are almost as many as may be, already: with silent ones left out there would be more, but for those that are needless, states that are alike, or one way for each word.
+func TestCrowded(t *testing.T) {
+	for _, c := range []struct {
+		seed             draw
+		hush, ends, dear int
+	}{
+		{1, 40, 1, 2}, {2, 80, 3, 1}, {5, 40, 1, 2}, {7, 100, 1, 1}, {11, 80, 1, 1}, {32, 60, 1, 1}, {36, 30, 1, 3}, {43, 30, 1, 3},
+	} {
+		f := c.seed.crowded(c.hush, c.ends, c.dear)
+		few(t, &c.seed, f)
+	}
+}
+
 // E1: one state between many, by which all silent ways lead, is gone to behind a letter, and from ahead of one: so there are not many more arcs than there were.
 func TestCovered(t *testing.T) {
 	d := draw(11)
@@ -122,6 +154,37 @@ func TestCovered(t *testing.T) {
 	}
 }
 
+// E1: of what is chosen nothing can be left out.
+func TestChoice(t *testing.T) {
+	d := draw(15)
+	for range 100 {
+		s := stridesOf(d.acceptor(2+d.below(8), 3, 2+d.below(6), 2+d.below(6), 1+d.below(9)))
+		c := coverOf(s)
+		l := c.few()
+		if c.open(l) > 0 {
+			t.Fatalf("%v: not all is served: %v", s, l)
+		}
+		for state := range c.silent {
+			for other := range c.silent {
+				if l.atOnce[other].has(state) {
+					l.atOnce[other] = l.atOnce[other].without(state)
+					if c.open(l) == 0 {
+						t.Fatalf("%v: from %d at once to %d is not asked for", s, other, state)
+					}
+					l.atOnce[other] = l.atOnce[other].with(state)
+				}
+				if l.laterOn[other].has(state) && state != c.start {
+					l.laterOn[other] = l.laterOn[other].without(state)
+					if c.open(l) == 0 {
+						t.Fatalf("%v: from %d later on to %d is not asked for", s, state, other)
+					}
+					l.laterOn[other] = l.laterOn[other].with(state)
+				}
+			}
+		}
+	}
+}
+
 // Two states from which all costs the same, or to which, become one.
 func TestLessened(t *testing.T) {
 	d := draw(12)
@@ -137,22 +200,21 @@ func TestLessened(t *testing.T) {
 	}
 }
 
-// E1: at most as many states as may be, with one arc from each by each letter.
+// E1: one way for each word is found where many states become few.
 func TestOneWay(t *testing.T) {
 	d := draw(13)
 	found := 0
 	for range 300 {
 		f := d.acceptor(2+d.below(6), 2, 3+d.below(4), 3+d.below(8), 1+d.below(3))
-		n := stridesOf(f).late().oneWay()
-		if len(n.final) == 0 {
+		g := stridesOf(f).late().oneWay()
+		if g.States == 0 || g.States > f.States {
 			continue
 		}
 		found++
-		right(t, f, n.acceptor(), words(5, 2))
-		arcs := n.arcs()
-		for i := 1; i < len(arcs); i++ {
-			if arcs[i].From == arcs[i-1].From && arcs[i].In == arcs[i-1].In {
-				t.Fatalf("%v: two arcs by one letter: %v", f, arcs)
+		right(t, f, g, words(5, 2))
+		for i := 1; i < len(g.Arcs); i++ {
+			if g.Arcs[i].From == g.Arcs[i-1].From && g.Arcs[i].In == g.Arcs[i-1].In {
+				t.Fatalf("%v: two arcs by one letter: %v", f, g)
 			}
 		}
 	}

@@ -4,6 +4,7 @@ import (
 	"slices"
 
 	"fareway/api"
+	"fareway/oneway"
 	"fareway/spread"
 )
 
@@ -67,4 +68,17 @@ func (n net) used() net {
 // acceptor that begins where it costs nothing to begin.
 func (n net) acceptor() api.Fst {
 	return api.Fst{States: len(n.final), Start: slices.Index(n.begin, 0), Final: n.final, Arcs: n.arcs()}
+}
+
+// mostSubsets is how many states are made to look for one way for each word; then those become one that are alike.
+const mostSubsets = 5000
+
+// oneWay is an acceptor with one way for each word, and no more states than it needs; or nothing, if there are too many to find that out.
+func (n net) oneWay() api.Fst {
+	near := n.near()
+	f, ok := oneway.Subsets(n.acceptor(), mostSubsets, func(costs []int) []int { return step(costs, near) })
+	if !ok {
+		return api.Fst{}
+	}
+	return oneway.Joined(oneway.Early(f))
 }

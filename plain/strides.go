@@ -55,15 +55,14 @@ func (s *strides) net(letters []table) net {
 	return net{begin: spread.Only(len(s.silent), s.start), final: s.final, letters: letters}.used()
 }
 
-// nets that cost the same, one after the other: those that are made soonest first.
-func (s *strides) nets() []func() net {
-	return []func() net{
-		s.late,
-		s.early,
-		s.covered,
-		func() net { return s.covered().lessened() },
-		func() net { return s.late().lessened() },
-		func() net { return s.early().lessened() },
-		func() net { return s.late().oneWay() },
+// made has what may come, one after the other: those that are made soonest first.
+func (s *strides) made() []func() api.Fst {
+	return []func() api.Fst{
+		func() api.Fst { return s.late().acceptor() },
+		func() api.Fst { return s.early().acceptor() },
+		func() api.Fst { return s.covered().lessened().acceptor() },
+		func() api.Fst { return s.late().lessened().acceptor() },
+		func() api.Fst { return s.early().lessened().acceptor() },
+		func() api.Fst { return s.late().oneWay() },
 	}
 }

@@ -48,3 +48,14 @@ func Sum(a, b int) int {
 func Less(a, b int) bool {
 	return a != api.None && (b == api.None || a < b)
 }
+
+// Cheapest of all prices; None, if there is none.
+func Cheapest(costs []int) int {
+	least := api.None
+	for _, cost := range costs {
+		if Less(cost, least) {
+			least = cost
+		}
+	}
+	return least
+}

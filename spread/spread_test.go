@@ -72,3 +72,19 @@ func TestPrices(t *testing.T) {
 		}
 	}
 }
+
+func TestCheapest(t *testing.T) {
+	for _, c := range []struct {
+		costs []int
+		want  int
+	}{
+		{nil, api.None},
+		{[]int{api.None, api.None}, api.None},
+		{[]int{0}, 0},
+		{[]int{api.None, 5, api.None, 3, 4}, 3},
+	} {
+		if is := Cheapest(c.costs); is != c.want {
+			t.Errorf("%v: it is %d and must be %d", c.costs, is, c.want)
+		}
+	}
+}

@@ -1,4 +1,4 @@
-package spots
+package oneway
 
 import (
 	"testing"
@@ -8,7 +8,7 @@ import (
 
 // Spots have one number for each, from 0 on, if one is as much dearer than the other, whatever they cost.
 func TestMeet(t *testing.T) {
-	var n Numbers
+	s := subsets{number: map[spots]int{}}
 	for _, c := range []struct {
 		costs            []int
 		number, cheapest int
@@ -24,30 +24,14 @@ func TestMeet(t *testing.T) {
 		{[]int{0, 0, 0}, 5, 0},
 		{[]int{2 * api.MaxWeight, api.None, 5 * api.MaxWeight}, 6, 2 * api.MaxWeight},
 	} {
-		if number, cheapest := n.Meet(c.costs); number != c.number || cheapest != c.cheapest {
+		if number, cheapest := s.meet(c.costs); number != c.number || cheapest != c.cheapest {
 			t.Errorf("%v: it is %d, %d and must be %d, %d", c.costs, number, cheapest, c.number, c.cheapest)
 		}
 	}
-	if len(n.Met) != 7 {
-		t.Errorf("%d are met", len(n.Met))
+	if len(s.met) != 7 {
+		t.Errorf("%d are met", len(s.met))
 	}
-	if s := n.Met[2]; s[0] != 0 || s[1] != api.None || s[2] != 1 || s[3] != api.None || s[api.MaxStates-1] != api.None {
-		t.Errorf("it is %v", s)
-	}
-}
-
-func TestCheapest(t *testing.T) {
-	for _, c := range []struct {
-		costs []int
-		want  int
-	}{
-		{nil, api.None},
-		{[]int{api.None, api.None}, api.None},
-		{[]int{0}, 0},
-		{[]int{api.None, 5, api.None, 3, 4}, 3},
-	} {
-		if is := Cheapest(c.costs); is != c.want {
-			t.Errorf("%v: it is %d and must be %d", c.costs, is, c.want)
-		}
+	if l := s.met[2]; l[0] != 0 || l[1] != api.None || l[2] != 1 || l[3] != api.None || l[api.MaxStates-1] != api.None {
+		t.Errorf("it is %v", l)
 	}
 }
