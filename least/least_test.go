@@ -127,6 +127,18 @@ func TestLeastOfMany(t *testing.T) {
 	}
 }
 
+// H1: whichever one with one way for each word it is made of.
+func TestLeastOfWhicheverComes(t *testing.T) {
+	none := api.None
+	late := api.Fst{States: 6, Start: 1, Final: []int{3, none, none, 4, none, 9}, Arcs: []api.Arc{
+		arc(1, 1, 2, 1), arc(1, 2, 3, 0), arc(1, 3, 4, 0), arc(2, 1, 0, 1), arc(2, 2, 4, 0), arc(5, 1, 0, 0),
+	}}
+	want := api.Fst{States: 3, Final: []int{none, none, 0}, Arcs: []api.Arc{arc(0, 1, 1, 5), arc(0, 2, 2, 4), arc(1, 1, 2, 0)}}
+	if g := leastOf(late); !equal(g, want) || !equal(made(t, late), want) {
+		t.Errorf("it is %v, or %v, and must be %v", g, made(t, late), want)
+	}
+}
+
 // H2, H3: what is made another one, so that it costs the same, is the same.
 func TestSameThings(t *testing.T) {
 	d := draw(2)

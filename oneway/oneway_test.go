@@ -140,6 +140,7 @@ func TestEarly(t *testing.T) {
 	for _, c := range []struct{ f, want api.Fst }{
 		// No word can be.
 		{api.Fst{States: 1, Final: []int{none}}, api.Fst{States: 1, Final: []int{none}}},
+		{api.Fst{States: 2, Final: []int{none, none}, Arcs: []api.Arc{arc(0, 1, 1, 3)}}, api.Fst{States: 2, Final: []int{none, none}, Arcs: []api.Arc{arc(0, 1, 1, 3)}}},
 		{api.Fst{States: 1, Final: []int{7}}, api.Fst{States: 1, Final: []int{7}}},
 		{
 			api.Fst{States: 3, Start: 2, Final: []int{4, 9, none}, Arcs: []api.Arc{arc(0, 1, 1, 1), arc(2, 1, 0, 2)}},

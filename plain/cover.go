@@ -1,7 +1,6 @@
 package plain
 
 import (
-	"math/bits"
 	"slices"
 
 	"fareway/api"
@@ -119,43 +118,15 @@ func (c *cover) open(l choice) int {
 	return n
 }
 
-// size is how many arcs a choice makes.
-func (c *cover) size(l choice) int {
-	n := 0
-	for _, t := range c.core {
-		rows := make([]set, len(t))
-		for _, from := range c.sources {
-			var ends set
-			for to, cost := range t[from] {
-				if cost != api.None {
-					ends |= l.atOnce[to]
-				}
-			}
-			for begin := range rows {
-				if l.laterOn[from].has(begin) {
-					rows[begin] |= ends
-				}
-			}
-		}
-		for _, s := range rows {
-			n += bits.OnesCount32(uint32(s))
-		}
-	}
-	return n
-}
-
-// few takes the states that serve the most for the fewest arcs, until all is served; then it leaves out what is served twice.
+// few takes the state that serves the most, then so again, until all is served; then it leaves out what is served twice.
 func (c *cover) few() choice {
 	now := c.first()
-	for open := c.open(now); open > 0; open = c.open(now) {
-		size := c.size(now)
+	for open := c.open(now); open > 0; {
 		var next choice
-		serves, price := 0, 1
 		for state := range c.silent {
 			l := c.also(now, state)
-			less, more := open-c.open(l), 1+c.size(l)-size
-			if less*price > serves*more {
-				next, serves, price = l, less, more
+			if n := c.open(l); n < open {
+				next, open = l, n
 			}
 		}
 		now = next

@@ -1,6 +1,7 @@
 package plain
 
 import (
+	"slices"
 	"testing"
 
 	"fareway/api"
@@ -128,7 +129,7 @@ func TestCrowded(t *testing.T) {
 		seed             draw
 		hush, ends, dear int
 	}{
-		{1, 40, 1, 2}, {2, 80, 3, 1}, {5, 40, 1, 2}, {7, 100, 1, 1}, {11, 80, 1, 1}, {32, 60, 1, 1}, {36, 30, 1, 3}, {43, 30, 1, 3},
+		{1, 40, 1, 2}, {1, 60, 1, 2}, {2, 40, 30, 3}, {2, 80, 3, 1}, {3, 30, 10, 3}, {5, 40, 1, 2}, {7, 100, 1, 1}, {32, 60, 1, 1}, {36, 30, 1, 3}, {43, 30, 1, 3},
 	} {
 		f := c.seed.crowded(c.hush, c.ends, c.dear)
 		few(t, &c.seed, f)
@@ -150,6 +151,36 @@ func TestCovered(t *testing.T) {
 		right(t, g, n.acceptor(), d.words(5, 9))
 		if len(n.arcs()) > len(g.Arcs)+3*api.MaxLetter*mostStates {
 			t.Errorf("%d arcs of %d", len(n.arcs()), len(g.Arcs))
+		}
+	}
+}
+
+// star: silent arcs from some states to the last one, and from it to some; letters from each of the others to some one.
+func (d *draw) star() api.Fst {
+	f := large(func(int) int { return d.below(1000) })
+	last := f.States - 1
+	for state := range last {
+		if d.below(2) == 0 {
+			f.Arcs = append(f.Arcs, arc(state, 0, last, d.below(1000)))
+		}
+		if d.below(2) == 0 {
+			f.Arcs = append(f.Arcs, arc(last, 0, state, d.below(1000)))
+		}
+		f.Arcs = append(f.Arcs, all(state, d.below(last), func(int) int { return d.below(1000) })...)
+	}
+	f.Arcs = order.Least(f.Arcs)
+	return f
+}
+
+// E1: the state that serves the most is taken first.
+func TestServesTheMost(t *testing.T) {
+	d := draw(16)
+	for range 10 {
+		f := d.star()
+		n := stridesOf(f).covered()
+		right(t, f, n.acceptor(), d.words(5, 9))
+		if len(n.arcs()) > 3*len(f.Arcs) {
+			t.Errorf("%d arcs of %d", len(n.arcs()), len(f.Arcs))
 		}
 	}
 }
@@ -197,6 +228,75 @@ func TestLessened(t *testing.T) {
 				t.Errorf("%d states are left", g.States)
 			}
 		}
+	}
+}
+
+// From the one state all costs 2 more than from the other one: told early, they are one.
+func TestOneWayToldEarly(t *testing.T) {
+	f := api.Fst{States: 3, Final: []int{api.None, 1, 3}, Arcs: []api.Arc{arc(0, 1, 1, 0), arc(0, 2, 2, 0), arc(1, 1, 1, 4), arc(2, 1, 2, 4)}}
+	want := api.Fst{States: 2, Final: []int{api.None, 0}, Arcs: []api.Arc{arc(0, 1, 1, 1), arc(0, 2, 1, 3), arc(1, 1, 1, 4)}}
+	if g := stridesOf(f).late().oneWay(); !same(g, want) {
+		t.Errorf("it is %v and must be %v", g, want)
+	}
+}
+
+// An arc that costs no less than another one, with silent arcs ahead of it and behind it, is left out; of two that cost the same one stays.
+func TestCore(t *testing.T) {
+	none := api.None
+	f := api.Fst{States: 3, Final: []int{none, none, 0}, Arcs: []api.Arc{
+		arc(0, 0, 1, 1), arc(0, 1, 1, 4), arc(0, 1, 2, 7), arc(0, 2, 2, 5), arc(1, 0, 2, 2), arc(1, 1, 1, 4), arc(1, 2, 2, 5), arc(2, 0, 1, 0),
+	}}
+	core := stridesOf(f).core()
+	for i, want := range []table{
+		{{none, 4, none}, {none, 4, none}, {none, none, none}},
+		{{none, none, 5}, {none, none, 5}, {none, none, none}},
+	} {
+		for from, row := range want {
+			if !slices.Equal(core[i][from], row) {
+				t.Errorf("by %d from %d it is %v and must be %v", i+1, from, core[i][from], row)
+			}
+		}
+	}
+	f.Arcs[0].Weight = 0
+	if l := stridesOf(f).core()[1]; l[0][2] != none || l[1][2] != 5 {
+		t.Errorf("it is %v", l)
+	}
+	g := api.Fst{States: 2, Final: []int{0, 0}, Arcs: []api.Arc{arc(0, 0, 1, 0), arc(0, 1, 0, 3), arc(0, 1, 1, 3), arc(1, 0, 0, 0), arc(1, 1, 0, 3), arc(1, 1, 1, 3)}}
+	if l := stridesOf(g).core()[0]; len(net{final: g.Final, letters: []table{l}}.arcs()) != 1 {
+		t.Errorf("it is %v", l)
+	}
+}
+
+// From the state 1 all can be done that can be done from 2, for no more: so it makes no difference how dear it is to be there, which would rise for ever.
+func TestOneWayWhereNothingIsNearer(t *testing.T) {
+	f := api.Fst{States: 3, Final: []int{api.None, 0, 0}, Arcs: []api.Arc{arc(0, 1, 1, 0), arc(0, 1, 2, 0), arc(1, 2, 1, 0), arc(2, 2, 2, 1)}}
+	want := api.Fst{States: 2, Final: []int{api.None, 0}, Arcs: []api.Arc{arc(0, 1, 1, 0), arc(1, 2, 1, 0)}}
+	if g := stridesOf(f).late().oneWay(); !same(g, want) {
+		t.Errorf("it is %v and must be %v", g, want)
+	}
+}
+
+// E1: what comes has no more states, even if one way for each word has more and few enough arcs.
+func TestNoMoreStates(t *testing.T) {
+	refused := 0
+	for seed := draw(2); seed < 6; seed++ {
+		d := seed
+		f := d.crowded(40, 1, 3)
+		if fst.Check(f) != api.OK {
+			continue
+		}
+		g, e := Plain(f)
+		if e == api.OK {
+			right(t, f, g, nil)
+			continue
+		}
+		refused++
+		if e != api.ErrMany || !same(g, api.Fst{}) {
+			t.Fatalf("it is %v, %d", g, e)
+		}
+	}
+	if refused == 0 {
+		t.Error("none is refused: too few to tell")
 	}
 }
 
